@@ -1,0 +1,1 @@
+"""Keptmarks: which ways of marking kept values lose no change."""

@@ -1,0 +1,87 @@
+"""The interface: the bounds, the errors, and in which file what is defined."""
+
+import ast
+import pathlib
+import unittest
+
+from keptmarks import bounds, errors
+from tests.samples import ODD_VALUES
+
+PACKAGE = pathlib.Path(__file__).resolve().parent.parent / "keptmarks"
+
+BOUNDS = {
+    "MAX_INPUTS": 3, "MAX_FORMULAS": 8, "MAX_VALUE": 3, "MAX_PARTS": 200, "MAX_DEEP": 8, "MAX_DEEDS": 200,
+    "MAX_HANDS": 3, "MAX_STEPS": 4000, "MAX_ORDER": 200, "MAX_WOVEN": 20000, "MAX_EDITS": 200,
+}
+
+WITH_ARGUMENT = {"BadSheet": "error", "BadBook": "error", "BadText": "line", "BadLog": "place", "TooMany": "limit"}
+WITHOUT_ARGUMENT = ("Unfit", "TooManyEdits", "NothingToUndo")
+
+FUNCTIONS = {
+    "sheets": {"sheet_error": ["value"]},
+    "asking": {
+        "true_value": ["sheet", "row", "cell"], "true_reads": ["sheet", "row", "cell"], "relies": ["sheet", "cell"],
+    },
+}
+
+
+def all_errors():
+    """One of each error, by its class's name."""
+    made = {name: getattr(errors, name)() for name in WITHOUT_ARGUMENT}
+    made.update({name: getattr(errors, name)(0) for name in WITH_ARGUMENT})
+    return made
+
+
+class Bounds(unittest.TestCase):
+    def test_numbers(self):
+        for name, number in BOUNDS.items():
+            self.assertIs(type(getattr(bounds, name)), int)
+            self.assertEqual(getattr(bounds, name), number, name)
+
+
+class Errors(unittest.TestCase):
+    def test_kept_just_as_made(self):
+        for name, field in WITH_ARGUMENT.items():
+            for value in ODD_VALUES + (0, "error", errors.Unfit()):
+                self.assertIs(getattr(getattr(errors, name)(value), field), value)
+                self.assertIs(getattr(getattr(errors, name)(**{field: value}), field), value)
+                self.assertEqual(list(vars(getattr(errors, name)(value))), [field])
+
+    def test_an_argument_is_asked_for(self):
+        for name in WITH_ARGUMENT:
+            with self.assertRaises(TypeError):
+                getattr(errors, name)()
+
+    def test_made_of_nothing(self):
+        for name in WITHOUT_ARGUMENT:
+            self.assertEqual(vars(getattr(errors, name)()), {})
+
+    def test_place_of_each_class(self):
+        self.assertEqual(errors.MarkError.__bases__, (ValueError,))
+        for name, error in all_errors().items():
+            self.assertEqual(type(error).__bases__, (errors.MarkError,), name)
+            self.assertIsInstance(error, ValueError)
+            for other in all_errors():
+                self.assertEqual(isinstance(error, getattr(errors, other)), other == name)
+
+    def test_raised_and_caught(self):
+        for name, error in all_errors().items():
+            for caught in (getattr(errors, name), errors.MarkError, ValueError):
+                with self.assertRaises(caught):
+                    raise error
+            self.assertIsInstance(str(error), str)
+
+
+class Files(unittest.TestCase):
+    def test_defined_where_they_are_listed(self):
+        for module, functions in FUNCTIONS.items():
+            tree = ast.parse((PACKAGE / (module + ".py")).read_text())
+            found = {node.name: node for node in tree.body if isinstance(node, ast.FunctionDef)}
+            for name, arguments in functions.items():
+                self.assertIn(name, found, module)
+                self.assertEqual([argument.arg for argument in found[name].args.args], arguments)
+
+    def test_errors_are_defined_in_their_file(self):
+        tree = ast.parse((PACKAGE / "errors.py").read_text())
+        found = [node.name for node in tree.body if isinstance(node, ast.ClassDef)]
+        self.assertEqual(sorted(found), sorted(["MarkError", *WITH_ARGUMENT, *WITHOUT_ARGUMENT]))
