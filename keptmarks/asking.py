@@ -71,7 +71,8 @@ def relied_for_row(sheet, row, cell):
     relied = []
     waiting = [cell]
     while waiting:
-        for other, _ in reads_by_values(sheet, values, waiting.pop()):
+        reads = reads_by_values(sheet, values, waiting.pop())
+        for other, _ in reads:
             if other not in relied:
                 relied.append(other)
                 waiting.append(other)

@@ -80,6 +80,31 @@ SHEETS = [
     (3, ((0, ((1, ((2, (0, 1, 2, 3)), 1)), 2)), (3, (3, 2, 1, 0)))),
 ] + made_sheets(40, 7)
 
+ENTRY_NAMES = (
+    "readers", "further", "stop", "perhaps", "sure", "check", "change", "write", "strike", "enter", "old", "hands")
+
+ENTRY_WORDS = (
+    ("none", "perhaps", "sure"), ("none", "perhaps", "sure"), ("marked", "unraised", "never"),
+    ("answer", "check", "work"), ("answer", "check", "work"), ("values", "mark"), ("none", "sure"),
+    ("first", "last", "between"), ("ahead", "behind", "unless"), ("ahead", "behind"), ("struck", "kept"),
+    ("one", "any"),
+)
+
+VALUES = tuple("perhaps perhaps marked check work values none first ahead ahead struck one".split())
+SIGNALS = tuple("sure perhaps marked check work mark sure first ahead ahead struck one".split())
+REWORK = tuple("sure sure marked answer work values none first ahead ahead struck one".split())
+
+
+def some_books(by):
+    """The first book, and so on by so many, and the last one."""
+    books = list(itertools.product(*ENTRY_WORDS))
+    return books[::by] + books[-1:]
+
+
+def with_item(row, place, item):
+    """The tuple with another item at a place."""
+    return row[:place] + (item,) + row[place + 1:]
+
 
 def rows_of(sheet):
     """All rows of a sheet."""

@@ -22,6 +22,13 @@ FUNCTIONS = {
     "asking": {
         "true_value": ["sheet", "row", "cell"], "true_reads": ["sheet", "row", "cell"], "relies": ["sheet", "cell"],
     },
+    "sheettexts": {"sheet_text": ["sheet"], "read_sheet": ["value"]},
+    "books": {
+        "book_error": ["value"], "altered": ["book", "name", "word"], "can_stand": ["book"], "book_number": ["book"],
+        "book_at": ["number"], "neighbours": ["book"],
+    },
+    "booktexts": {"book_text": ["book"], "read_book": ["value"]},
+    "knownbooks": {"known_names": [], "known_book": ["value"]},
 }
 
 

@@ -26,9 +26,9 @@ STATEMENTS = (
 )
 
 BARRED_NAMES = set("""
-register mro elements open input law version_info with_traceback add_note attrgetter breakpoint builtins compile copyright
-credits delattr dir eval exec exit gc getattr globals hasattr help id importlib license locals methodcaller os quit setattr
-vars sys
+register mro elements open input law version_info with_traceback add_note attrgetter breakpoint builtins compile
+copyright credits delattr dir eval exec exit gc getattr globals hasattr help id importlib license locals methodcaller os
+quit setattr vars sys
 """.split())
 
 BARRED_WORDS = re.compile(r"\b(type|typing|enum|Enum|Flag|Generic|Protocol|ABC|namedtuple)\b|_wall|_WallAttr|[%\r\t]")

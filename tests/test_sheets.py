@@ -85,7 +85,8 @@ class Form(unittest.TestCase):
             self.assertEqual(sheet_error(value), told)
 
     def test_no_pair_with_a_tuple(self):
-        for value in ((1,), (1, (0,), 0), [1, (0,)], (1, [0]), (1, 0), (1, None), (1, "0"), (1, {0: 0}), {1: (0,)}, "10"):
+        for value in ((1,), (1, (0,), 0), [1, (0,)], (1, [0]), (1, 0), (1, True), (1, None), (1, "0"), (1, {0: 0}),
+                      ((0,), 1), {1: (0,)}, "10"):
             self.assertEqual(sheet_error(value), "form")
 
     def test_form_ahead_of_inputs(self):
@@ -128,7 +129,7 @@ class Parts(unittest.TestCase):
                 self.told(part, (), "cell")
             else:
                 self.told(part, (), "form")
-        for part in ((0,), (0, (1,), 1), [0, (1,)], (0, [1]), (0, 1), (0, None), "0", {0: (1,)}):
+        for part in ((0,), (0, (1,), 1), [0, (1,)], (0, [1]), (0, 1), (0, True), (0, None), [0], [], "0", {0: (1,)}):
             self.told(part, (), "form")
             self.told((1, (0, part)), (1,), "form")
 
