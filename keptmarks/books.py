@@ -2,6 +2,7 @@
 
 from keptmarks.errors import Unfit
 from keptmarks.kinds import is_number_to
+from keptmarks.tuples import with_item
 
 ENTRIES = (
     ("readers", ("none", "perhaps", "sure")),
@@ -20,10 +21,22 @@ ENTRIES = (
 
 HOW_MANY_BOOKS = 69984
 
-# The places of the entries that tell which mark is given.
+# The places of the entries.
 READERS = 0
 FURTHER = 1
+STOP = 2
+PERHAPS = 3
+SURE = 4
+CHECK = 5
 CHANGE = 6
+WRITE = 7
+STRIKE = 8
+ENTER = 9
+OLD = 10
+HANDS = 11
+
+# The marks of the words that tell which mark is given.
+MARKS = {"none": 0, "perhaps": 1, "sure": 2}
 
 
 def book_error(value):
@@ -40,7 +53,7 @@ def altered(book, name, word):
     """Return the book with another word at the entry of this name; raise Unfit if there is no such entry or word."""
     for place, (entry, words) in enumerate(ENTRIES):
         if name == entry and word in words:
-            return with_word(book, place, word)
+            return with_item(book, place, word)
     raise Unfit()
 
 
@@ -81,10 +94,5 @@ def neighbours(book):
     for place, (_, words) in enumerate(ENTRIES):
         for word in words:
             if word != book[place]:
-                others.append(with_word(book, place, word))
+                others.append(with_item(book, place, word))
     return tuple(sorted(others, key=book_number))
-
-
-def with_word(book, place, word):
-    """Return the book with another word at a place."""
-    return book[:place] + (word,) + book[place + 1:]

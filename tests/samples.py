@@ -66,6 +66,36 @@ def made_sheets(many, seed):
     return sheets
 
 
+def made_small_sheet(dice, most=3):
+    """Some sheet of few cells, of which most read others."""
+    inputs = dice.randrange(1, 3)
+    formulas = []
+    for spot in range(dice.randrange(1, most + 1)):
+        formulas.append(made_formula(dice, inputs + spot, dice.randrange(1, 4), [20]))
+    return inputs, tuple(formulas)
+
+
+def made_row(dice, sheet):
+    """Some row of a sheet."""
+    return tuple(dice.randrange(4) for _ in range(sheet[0]))
+
+
+def made_deeds(dice, sheet, many):
+    """So many deeds; of the inputs and the values few are taken, so that values come back."""
+    deeds = []
+    for _ in range(many):
+        if sheet[0] and dice.random() < 0.5:
+            deeds.append(("set", dice.randrange(sheet[0]), dice.randrange(3)))
+        else:
+            deeds.append(("look", dice.randrange(sheet[0] + len(sheet[1]))))
+    return tuple(deeds)
+
+
+def made_book(dice):
+    """Some book."""
+    return tuple(dice.choice(words) for words in ENTRY_WORDS)
+
+
 SHEETS = [
     TWO,
     (0, (3,)),
@@ -93,6 +123,21 @@ ENTRY_WORDS = (
 VALUES = tuple("perhaps perhaps marked check work values none first ahead ahead struck one".split())
 SIGNALS = tuple("sure perhaps marked check work mark sure first ahead ahead struck one".split())
 REWORK = tuple("sure sure marked answer work values none first ahead ahead struck one".split())
+
+# The same as the document's books of these names.
+TRACED = tuple("sure perhaps marked check work values sure first ahead ahead struck one".split())
+NEVER = tuple("none none never answer answer values none first ahead ahead kept any".split())
+
+COPY = (1, ((0, (0, 1)),))
+PAIR = (1, ((0, (1, 0)), (1, (0, 1))))
+COPIES = (1, ((0, (0, 1, 2, 3)), (1, (0, 1, 2, 3)), (2, (0, 1, 2, 3))))
+# Each of the eight formulas reads the one ahead: what goes through all of them takes many steps.
+EIGHT = (1, tuple((cell, (0, 1, 2, 3)) for cell in range(8)))
+
+
+def book_with(book, **words):
+    """The book with other words at the entries of these names."""
+    return tuple(words.get(name, word) for name, word in zip(ENTRY_NAMES, book))
 
 
 def some_books(by):

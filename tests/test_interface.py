@@ -29,6 +29,16 @@ FUNCTIONS = {
     },
     "booktexts": {"book_text": ["book"], "read_book": ["value"]},
     "knownbooks": {"known_names": [], "known_book": ["value"]},
+    "standings": {
+        "start": ["sheet", "row", "programs"], "has_ended": ["standing"], "can_step": ["book", "standing", "hand"],
+        "kept_cells": ["standing"],
+    },
+    "steps": {
+        "step": ["book", "sheet", "standing", "hand"], "told": ["book", "sheet", "standing", "hand"],
+        "after": ["book", "sheet", "standing", "order"],
+    },
+    "aloneruns": {"alone": ["book", "sheet", "row", "deeds"]},
+    "onehand": {"slip_alone": ["book"], "safe_alone": ["book"]},
 }
 
 

@@ -127,7 +127,39 @@ class Language(unittest.TestCase):
                     self.assertIsInstance(node, (ast.ImportFrom, ast.FunctionDef, ast.ClassDef, ast.Assign), path.name)
                 if isinstance(node, ast.Assign):
                     self.assertEqual(len(node.targets), 1)
-                    self.assertIsInstance(ast.literal_eval(node.value), (int, str, tuple), path.name)
+                    self.check_plain(node.value, path, node.lineno)
+
+    def check_plain(self, value, path, line, inner=False):
+        """A plain value: a tuple, or a dict on its own, of plain values and of functions that are defined above."""
+        if isinstance(value, ast.Tuple):
+            for item in value.elts:
+                self.check_plain(item, path, line, True)
+        elif isinstance(value, ast.Dict):
+            self.assertFalse(inner, path.name)
+            for item in value.keys + value.values:
+                self.check_plain(item, path, line, True)
+        elif isinstance(value, ast.Name):
+            above = ast.parse("\n".join(path.read_text().split("\n")[:line - 1])).body
+            self.assertIn(value.id, [node.name for node in above if isinstance(node, ast.FunctionDef)], path.name)
+        else:
+            self.assertIsInstance(ast.literal_eval(value), (int, str), path.name)
+
+    def test_dicts_at_module_level_are_only_read(self):
+        tables = set()
+        for path, tree in files():
+            for node in tree.body:
+                if isinstance(node, ast.Assign) and isinstance(node.value, ast.Dict):
+                    tables.add(node.targets[0].id)
+        for path, tree in files():
+            indexed = [node.value for node in ast.walk(tree)
+                       if isinstance(node, ast.Subscript) and isinstance(node.ctx, ast.Load)]
+            for node in ast.walk(tree):
+                if isinstance(node, ast.Name) and isinstance(node.ctx, ast.Load) and node.id in tables:
+                    self.assertIn(node, indexed, (path.name, node.id))
+            for node in ast.walk(tree):
+                # A function from a table is given a name ahead of its call.
+                if isinstance(node, ast.Call):
+                    self.assertIsInstance(node.func, (ast.Name, ast.Attribute), path.name)
 
     def test_statements_and_names(self):
         for path, tree in files():
