@@ -39,6 +39,12 @@ FUNCTIONS = {
     },
     "aloneruns": {"alone": ["book", "sheet", "row", "deeds"]},
     "onehand": {"slip_alone": ["book"], "safe_alone": ["book"]},
+    "onerun": {"losing_alone": ["book"], "losing_alone_error": ["book", "value"]},
+    "working": {"works": ["book", "sheet", "row", "deeds"], "least_works": ["sheet", "row", "deeds"]},
+    "vain": {"no_vain": ["book"], "vain_run": ["book"]},
+    "weaving": {
+        "woven": ["book", "sheet", "row", "programs"], "how_many_orders": ["book", "sheet", "row", "programs"],
+    },
 }
 
 
