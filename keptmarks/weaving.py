@@ -8,15 +8,16 @@ from keptmarks.steps import step
 
 def woven(book, sheet, row, programs):
     """Return how many unlike standings come; raise TooMany if these are more than MAX_WOVEN."""
-    return len(weave(book, sheet, row, programs))
+    standings, _ = weave(book, sheet, row, programs)
+    return len(standings)
 
 
 def how_many_orders(book, sheet, row, programs):
     """Return how many whole orders there are; raise TooMany as woven does."""
-    following = weave(book, sheet, row, programs)
+    _, following = weave(book, sheet, row, programs)
     ahead = [0] * len(following)
-    for numbers in following:
-        for number in numbers:
+    for ways in following:
+        for _, number in ways:
             ahead[number] += 1
     orders = [0] * len(following)
     orders[0] = 1
@@ -27,7 +28,7 @@ def how_many_orders(book, sheet, row, programs):
         at = ready.pop()
         if not following[at]:
             whole += orders[at]
-        for number in following[at]:
+        for _, number in following[at]:
             orders[number] += orders[at]
             ahead[number] -= 1
             if ahead[number] == 0:
@@ -36,9 +37,10 @@ def how_many_orders(book, sheet, row, programs):
 
 
 def weave(book, sheet, row, programs):
-    """Return for each standing that comes the list of the numbers of those that are one step behind it.
+    """Return all standings that come, and for each one the list of its ways on.
 
-    Standings are numbered in the order in which they are found: those that take fewer steps first, hands in order.
+    A way on is a pair of the hand whose step it is and the number of the standing behind it. Standings are numbered in
+    the order in which they are found: those that take fewer steps first, hands in order.
     """
     first = start(sheet, row, programs)
     standings = [first]
@@ -46,7 +48,7 @@ def weave(book, sheet, row, programs):
     following = []
     while len(following) < len(standings):
         standing = standings[len(following)]
-        reached = []
+        ways = []
         for hand in range(len(programs)):
             if can_step(book, standing, hand):
                 behind = step(book, sheet, standing, hand)
@@ -54,11 +56,11 @@ def weave(book, sheet, row, programs):
                 if key not in numbers:
                     numbers[key] = len(standings)
                     standings.append(behind)
-                reached.append(numbers[key])
+                ways.append((hand, numbers[key]))
         if len(standings) > MAX_WOVEN:
             raise TooMany(MAX_WOVEN)
-        following.append(reached)
-    return following
+        following.append(ways)
+    return standings, following
 
 
 def standing_key(standing):

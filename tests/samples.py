@@ -75,6 +75,21 @@ def made_small_sheet(dice, most=3):
     return inputs, tuple(formulas)
 
 
+def made_lively_sheet(dice, most=3):
+    """Some sheet of few cells, each of which reads others, and mostly has another value where these have."""
+    inputs = dice.randrange(1, 3)
+    formulas = []
+    for cell in range(inputs, inputs + dice.randrange(1, most + 1)):
+        formula = None
+        for _ in range(dice.choice((1, 1, 2))):
+            branches = dice.sample(range(4), dice.randrange(2, 5))
+            if formula is not None:
+                branches[dice.randrange(2)] = formula
+            formula = (dice.choice((cell - 1, dice.randrange(cell))), tuple(branches))
+        formulas.append(formula)
+    return inputs, tuple(formulas)
+
+
 def made_row(dice, sheet):
     """Some row of a sheet."""
     return tuple(dice.randrange(4) for _ in range(sheet[0]))
@@ -88,6 +103,18 @@ def made_deeds(dice, sheet, many):
             deeds.append(("set", dice.randrange(sheet[0]), dice.randrange(3)))
         else:
             deeds.append(("look", dice.randrange(sheet[0] + len(sheet[1]))))
+    return tuple(deeds)
+
+
+def made_lively_deeds(dice, sheet, many):
+    """So many deeds; first one looks at a formula's cell, and most sets change something that was looked at."""
+    inputs, formulas = sheet
+    deeds = []
+    for place in range(many):
+        if place % 2 == 0 or dice.random() < 0.4:
+            deeds.append(("look", inputs + dice.randrange(len(formulas))))
+        else:
+            deeds.append(("set", dice.randrange(inputs), dice.randrange(4)))
     return tuple(deeds)
 
 

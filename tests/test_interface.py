@@ -45,6 +45,12 @@ FUNCTIONS = {
     "weaving": {
         "woven": ["book", "sheet", "row", "programs"], "how_many_orders": ["book", "sheet", "row", "programs"],
     },
+    "weavesearch": {
+        "wrongly_told": ["book", "sheet", "standing"], "may_lose": ["book", "sheet", "row", "programs"],
+    },
+    "safety": {"slip": ["book"], "safe": ["book"], "mended": ["book"]},
+    "losingruns": {"losing": ["book"]},
+    "losingjudge": {"losing_error": ["book", "value"]},
 }
 
 

@@ -5,6 +5,8 @@ import unittest
 from keptmarks.books import book_error, book_number
 from keptmarks.errors import Unfit
 from keptmarks.knownbooks import known_book, known_names
+from keptmarks.onehand import slip_alone
+from keptmarks.safety import slip
 from tests.samples import ENTRY_NAMES, ODD_VALUES, SIGNALS, VALUES, check_calls
 
 NAMES = (
@@ -25,6 +27,14 @@ BOOKS = {
     "stale": ("perhaps perhaps marked answer work values none first ahead ahead struck one", 31680),
     "untold": ("perhaps perhaps marked check work mark sure first ahead ahead struck one", 32760),
     "blind": ("sure perhaps marked check check mark sure first ahead ahead struck one", 55800),
+}
+
+
+# Of each name what slip_alone and slip tell.
+SLIPS = {
+    "signals": (None, None), "values": (None, None), "rework": (None, None), "remark": (None, None),
+    "early": (None, 6), "shared": (None, 8), "late": (None, 9), "unentered": (None, 7),
+    "direct": (1, 1), "stale": (2, 2), "untold": (3, 3), "blind": (4, 4),
 }
 
 
@@ -56,6 +66,10 @@ class KnownBooks(unittest.TestCase):
             for entry, word, told in zip(ENTRY_NAMES, words.split(), book):
                 self.assertEqual(told, word, (name, entry))
             self.assertEqual(book_number(book), number)
+
+    def test_what_becomes_of_them(self):
+        told = {name: (slip_alone(known_book(name)), slip(known_book(name))) for name in known_names()}
+        self.assertEqual(told, SLIPS)
 
     def test_no_names(self):
         for name in NAMES:
