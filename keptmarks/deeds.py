@@ -1,4 +1,4 @@
-"""What is a row of a sheet, and what a program for it."""
+"""What is a row of a sheet, what a program for it, and what one of its formulas' cells."""
 
 from keptmarks.bounds import MAX_DEEDS, MAX_VALUE
 from keptmarks.kinds import is_number_to
@@ -28,3 +28,9 @@ def is_deed(sheet, value):
     if len(value) == 2 and value[0] == "look":
         return is_number_to(value[1], inputs + len(formulas) - 1)
     return False
+
+
+def is_formula_cell(sheet, value):
+    """Return whether a value is the number of a formula's cell of the sheet."""
+    inputs, formulas = sheet
+    return is_number_to(value, inputs + len(formulas) - 1) and value >= inputs

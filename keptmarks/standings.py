@@ -2,11 +2,14 @@
 
 from keptmarks.books import HANDS
 
+# What a standing has for a formula's cell that was never worked out.
+NOTHING_KEPT = (None, 0, (), False, None)
+
 
 def start(sheet, row, programs):
     """Return the first standing of programs on a sheet with this row."""
     inputs, formulas = sheet
-    cells = ((None, 0, (), False, None),) * len(formulas)
+    cells = (NOTHING_KEPT,) * len(formulas)
     entered = ((),) * (inputs + len(formulas))
     return row, cells, entered, tuple([(program, ()) for program in programs])
 

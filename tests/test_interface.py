@@ -5,7 +5,9 @@ import pathlib
 import unittest
 
 from keptmarks import bounds, errors
-from tests.samples import ODD_VALUES
+from keptmarks.roomlogs import room_behind
+from keptmarks.rooms import Room
+from tests.samples import ODD_VALUES, PAIR, VALUES
 
 PACKAGE = pathlib.Path(__file__).resolve().parent.parent / "keptmarks"
 
@@ -51,6 +53,28 @@ FUNCTIONS = {
     "safety": {"slip": ["book"], "safe": ["book"], "mended": ["book"]},
     "losingruns": {"losing": ["book"]},
     "losingjudge": {"losing_error": ["book", "value"]},
+    "awaited": {
+        "wrong_cells": ["sheet", "standing"], "awaited_cells": ["book", "sheet", "standing"],
+        "lost_cells": ["book", "sheet", "standing"],
+    },
+    "comparing": {
+        "is_quiet": ["book"], "hasty": ["book"], "never_more": ["one", "other"], "more_run": ["one", "other"],
+        "more_error": ["one", "other", "value"],
+    },
+    "roomlogs": {
+        "log_text": ["log"], "read_log": ["value"], "room_behind": ["book", "sheet", "row", "value"],
+    },
+}
+
+# Of each class its methods with their arguments, and its attributes.
+CLASSES = {
+    "rooms": {
+        "Room": (
+            {"__init__": ["book", "sheet", "row"], "look": ["cell"], "put": ["x", "v"], "change": ["cell", "formula"],
+             "undo": [], "twin": [], "__eq__": ["other"]},
+            ("book", "sheet", "row", "edits", "version", "worked", "kept")),
+    },
+    "shells": {"Shell": ({"__init__": [], "say": ["line"]}, ())},
 }
 
 
@@ -109,6 +133,22 @@ class Files(unittest.TestCase):
             for name, arguments in functions.items():
                 self.assertIn(name, found, module)
                 self.assertEqual([argument.arg for argument in found[name].args.args], arguments)
+
+    def test_classes_with_their_methods(self):
+        for module, classes in CLASSES.items():
+            tree = ast.parse((PACKAGE / (module + ".py")).read_text())
+            found = {node.name: node for node in tree.body if isinstance(node, ast.ClassDef)}
+            for name, (methods, attributes) in classes.items():
+                self.assertIn(name, found, module)
+                own = {node.name: node for node in found[name].body if isinstance(node, ast.FunctionDef)}
+                for method, arguments in methods.items():
+                    self.assertIn(method, own, name)
+                    self.assertEqual([argument.arg for argument in own[method].args.args][1:], arguments, method)
+
+    def test_attributes_are_set_on_each_object(self):
+        for room in (Room(VALUES, PAIR, (0,)), Room(VALUES, PAIR, (0,)).twin(), room_behind(VALUES, PAIR, (0,), ())):
+            for name in CLASSES["rooms"]["Room"][1]:
+                self.assertTrue(hasattr(room, name), name)
 
     def test_errors_are_defined_in_their_file(self):
         tree = ast.parse((PACKAGE / "errors.py").read_text())

@@ -17,7 +17,7 @@ staticmethod classmethod NotImplemented
 METHODS = set("""
 append clear copy count endswith extend find get index insert isalnum isalpha isdigit islower isspace isupper items join
 keys ljust lower lstrip partition pop remove replace reverse rfind rjust rpartition rsplit rstrip setdefault split
-splitlines startswith strip update upper values zfill bit_length add discard sort __init__
+splitlines startswith strip update upper values zfill bit_length isascii add discard sort __init__
 """.split())
 
 STATEMENTS = (
@@ -142,7 +142,7 @@ class Language(unittest.TestCase):
             above = ast.parse("\n".join(path.read_text().split("\n")[:line - 1])).body
             self.assertIn(value.id, [node.name for node in above if isinstance(node, ast.FunctionDef)], path.name)
         else:
-            self.assertIsInstance(ast.literal_eval(value), (int, str), path.name)
+            self.assertIsInstance(ast.literal_eval(value), (int, str, type(None)), path.name)
 
     def test_dicts_at_module_level_are_only_read(self):
         tables = set()
@@ -162,8 +162,8 @@ class Language(unittest.TestCase):
                     self.assertIsInstance(node.func, (ast.Name, ast.Attribute), path.name)
 
     def test_statements_and_names(self):
+        own = {node.name for path, tree in files() for node in ast.walk(tree) if isinstance(node, ast.FunctionDef)}
         for path, tree in files():
-            own = {node.name for node in ast.walk(tree) if isinstance(node, ast.FunctionDef)}
             names = set(bound_names(tree))
             self.assertFalse((names & set(dir(builtins))) - {"__init__", "__eq__"}, path.name)
             self.assertFalse(names & BARRED_NAMES, path.name)
@@ -177,6 +177,50 @@ class Language(unittest.TestCase):
                 if isinstance(node, ast.Call) and isinstance(node.func, ast.Attribute):
                     self.assertIn(node.func.attr, METHODS | own, path.name)
                 self.assertNotIsInstance(node, ast.Div, path.name)
+
+    def test_what_a_class_with_eq_bars(self):
+        # Such a class is in the package: no generator expressions, and no handlers but for own errors.
+        own = {node.name for path, tree in files() for node in tree.body if isinstance(node, ast.ClassDef)}
+        for path, tree in files():
+            for node in ast.walk(tree):
+                self.assertNotIsInstance(node, (ast.GeneratorExp, ast.Yield, ast.YieldFrom, ast.Lambda), path.name)
+                if isinstance(node, ast.ExceptHandler):
+                    self.assertIsInstance(node.type, ast.Name, path.name)
+                    self.assertIn(node.type.id, own, path.name)
+                if isinstance(node, ast.Compare) and any(isinstance(sign, (ast.Is, ast.IsNot)) for sign in node.ops):
+                    self.assertTrue(all(isinstance(side, ast.Constant) for side in node.comparators), path.name)
+
+    def test_names_of_classes(self):
+        methods, properties, stored = {}, set(), {}
+        for path, tree in files():
+            for node in tree.body:
+                if not isinstance(node, ast.ClassDef):
+                    continue
+                for one in node.body:
+                    if isinstance(one, ast.FunctionDef):
+                        (properties.add if one.decorator_list else methods.setdefault(one.name, []).append)(
+                            one.name if one.decorator_list else node.name)
+                for one in ast.walk(node):
+                    if isinstance(one, ast.Attribute) and isinstance(one.ctx, ast.Store):
+                        stored.setdefault(one.attr, set()).add(node.name)
+        self.assertFalse(properties & set(methods))
+        self.assertFalse(properties & set(stored))
+        self.assertFalse(set(stored) & set(methods))
+        for name in properties | set(stored) | set(methods) - {"__init__", "__eq__"}:
+            self.assertFalse(any(hasattr(value, name) for value in ("", 0, [], {}, (), set(), b"")), name)
+        # What is read off an object is stored by some class, or a property, or a method that is called.
+        for path, tree in files():
+            for node in ast.walk(tree):
+                if isinstance(node, ast.Attribute) and isinstance(node.ctx, ast.Load):
+                    self.assertIn(node.attr, properties | set(stored) | set(methods) | METHODS, path.name)
+
+    def test_arguments_of_own_calls(self):
+        takes = {node.name: len(node.args.args) for path, tree in files() for node in tree.body
+                 if isinstance(node, ast.FunctionDef)}
+        for path, tree in files():
+            for node in ast.walk(tree):
+                if isinstance(node, ast.Call) and isinstance(node.func, ast.Name) and node.func.id in takes:
+                    self.assertEqual(len(node.args) + len(node.keywords), takes[node.func.id], node.func.id)
 
     def test_strings(self):
         for path, tree in files():

@@ -24,11 +24,11 @@ RUN = (SINGLE, (0,), (SET, LOOK), (0,) * 3 + (1,) * 7 + (0,))
 
 # What is no program for SINGLE.
 NO_PROGRAMS = (
-    None, True, 0, 1, "look", "", [], [("look", 1)], {}, {("look", 1): True}, (1,), ("look",), ("look", 1), ("set", 0, 1),
-    (("look",),), (("look", 2),), (("look", -1),), (("look", True),), (("look", None),), (("look", "1"),),
-    (["look", 1],), (("Look", 1),), (("look", 1, 0),), (("set", 1, 0),), (("set", 0, 4),), (("set", 0, -1),),
-    (("set", 0, True),), (("set", False, 0),), (("set", 0),), (("set", 0, 0, 0),), (("put", 0, 0),), ((),), (((),),),
-    (("look", 1), None), (("look", 1), ("look", 2)), (("look", 10 ** 399),), (("set", 0, 1),) * 201,
+    None, True, 0, 1, "look", "", [], [("look", 1)], {}, {("look", 1): True}, (1,), ("look",), ("look", 1),
+    ("set", 0, 1), (("look",),), (("look", 2),), (("look", -1),), (("look", True),), (("look", None),),
+    (("look", "1"),), (["look", 1],), (("Look", 1),), (("look", 1, 0),), (("set", 1, 0),), (("set", 0, 4),),
+    (("set", 0, -1),), (("set", 0, True),), (("set", False, 0),), (("set", 0),), (("set", 0, 0, 0),), (("put", 0, 0),),
+    ((),), (((),),), (("look", 1), None), (("look", 1), ("look", 2)), (("look", 10 ** 399),), (("set", 0, 1),) * 201,
 )
 
 # What is no hand of two.

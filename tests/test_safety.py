@@ -1,5 +1,6 @@
 """G2, G3 and G6 as far as it counts books: which books are safe for any hands, and the nearest one that is."""
 
+import functools
 import itertools
 import random
 import unittest
@@ -40,9 +41,14 @@ def slow_slips(book):
     return [number for number in found if found[number]]
 
 
+@functools.cache
+def all_safe_books():
+    return tuple(book for book in all_books() if not slow_slips(book))
+
+
 def safe_books():
-    """All books of which none of the numbers holds."""
-    return [book for book in all_books() if not slow_slips(book)]
+    """The list of all books of which none of the numbers holds."""
+    return list(all_safe_books())
 
 
 class Examples(unittest.TestCase):

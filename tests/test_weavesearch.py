@@ -313,7 +313,7 @@ class TooManyStandings(unittest.TestCase):
         self.too_many(VALUES, EIGHT, (0,), ((("look", 8),) * 150, (("look", 0),) * 150))
 
     def test_only_where_woven_raises_it(self):
-        for number in range(40):
+        for number in range(12):
             dice = random.Random(number)
             programs = tuple((("set", 0, 0),) * dice.randrange(100, 200) for _ in range(2))
             fits = (len(programs[0]) + 1) * (len(programs[1]) + 1) <= 20000
