@@ -190,6 +190,7 @@ class Orders(Judged):
         for odd in NO_HANDS:
             self.told(("order", 200), (SINGLE, (0,), (IDLE * 200, IDLE), (0,) * 200 + (odd,)))
             self.told(("order", 199), (SINGLE, (0,), (IDLE * 200, IDLE), (0,) * 199 + (odd, 0)))
+            self.told(("order", 200), (SINGLE, (0,), (IDLE * 200, IDLE * 200), (0, 1) * 150 + (odd,)))
 
     def test_orders_that_end_too_early(self):
         for many in range(11):

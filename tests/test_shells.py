@@ -409,6 +409,14 @@ class What(Lines):
                 self.assertEqual(s.say(line), "what", line[:40])
             self.assertEqual(self.state(s), before)
 
+    def test_letters_and_figures_of_other_scripts(self):
+        for s in self.shells():
+            before = self.state(s)
+            for line in ("known v\u00e4lues", "known \u00e9", "number \u0663", "number \u00b2", "look \u0661",
+                         "look \uff11", "entry h\u00e4nds any", "judg\u00e9"):
+                self.assertEqual(s.say(line), "what")
+            self.assertEqual(self.state(s), before)
+
     def test_what_is_no_string(self):
         for s in self.shells():
             before = self.state(s)

@@ -81,7 +81,7 @@ class OneHand(unittest.TestCase):
                 self.assertIsNone(losing_alone_error(book, run))
 
     def test_one_hand_among_weavings(self):
-        # A book that is safe for one hand loses nothing in a weaving of one; a losing run of one hand is such a weaving.
+        # A book that is safe for one hand loses nothing in a weaving of one; what one hand loses is such a weaving.
         books = books_safe_alone()
         for number in range(150):
             sheet, row, deeds, dice = made_run(number)
